@@ -1,0 +1,1 @@
+"""Streakdays: days kept, told by words of several devices, and the streaks that they make."""
