@@ -62,7 +62,8 @@ class UntilTest(unittest.TestCase):
         for rules, kept, today, day in [
             (DAILY, [0], 0, 1), (DAILY, [60], 60, 61), ((1, (), 2, 1), [5], 5, 7), ((1, (), 30, 9), [60], 60, 70),
             ((7, (5, 6), 7, 0), [4], 4, 7), ((7, (5, 6), 7, 1), [4], 4, 8),
-            ((14, tuple(range(13)), 1, 0), [60], 60, 69), ((14, tuple(range(13)), 30, 2), [13], 14, 55), ((14, tuple(range(1, 14)), 29, 2), [0], 0, 42),
+            ((14, tuple(range(13)), 1, 0), [60], 60, 69), ((14, tuple(range(13)), 30, 2), [13], 14, 55),
+            ((14, tuple(range(1, 14)), 29, 2), [0], 0, 42),
         ]:
             self.assertEqual(until(rules, kept, today), day, (rules, kept, today))
 
